@@ -1,0 +1,1 @@
+"""Gridframe: tables of cells that span, changed, laid out and drawn, and read back."""
