@@ -114,5 +114,9 @@ def empty_cell(row, column):
     return (row, column, 1, 1, ())
 
 
+def moved_cell(cell, down, right):
+    return (cell[0] + down, cell[1] + right) + cell[2:]
+
+
 def in_order(cells):
     return sorted(cells, key=first_place)

@@ -1,5 +1,11 @@
 """Tables for the tests, and a second way to think of them: a grid that names each place's cell."""
 
+import copy
+
+PINWHEEL = (3, 3, [
+    (0, 0, 1, 2, ("a",)), (0, 2, 2, 1, ("b",)), (1, 0, 2, 1, ("c",)), (1, 1, 1, 1, ("d",)), (2, 1, 1, 2, ("e",)),
+])
+
 
 def tilings(rows, columns):
     """Every list of (top, left, height, width) in order that covers each place just once."""
@@ -58,3 +64,77 @@ def table_of(grid, words):
         assert height * width == len(held)
         cells.append((top, left, height, width, words.get(name, ())))
     return len(grid), len(grid[0]), cells
+
+
+def by_grid(table, change):
+    """The table whose grid is the changed grid of a table."""
+    grid, words = grid_of(table)
+    return table_of(change(grid), words)
+
+
+def large_tables():
+    """Some tables of up to 16 rows and columns with cells of many sizes, the same ones each time."""
+    state = [20]
+
+    def chosen(many):
+        state[0] = (state[0] * 1103515245 + 12345) % 2 ** 31
+        return (state[0] >> 16) % many
+
+    tables = []
+    for rows, columns, longest in ((16, 16, 3), (16, 5, 7), (4, 16, 4), (11, 9, 2), (7, 7, 7), (1, 16, 5), (16, 1, 5)):
+        for _ in range(6):
+            tables.append(chosen_table(rows, columns, longest, chosen))
+    return tables
+
+
+def chosen_table(rows, columns, longest, chosen):
+    taken = set()
+    cells = []
+    for top in range(rows):
+        for left in range(columns):
+            if (top, left) in taken:
+                continue
+            height = 1 + chosen(min(longest, rows - top))
+            width = 1
+            stop = 1 + chosen(longest)
+            while width < stop and left + width < columns and (top, left + width) not in taken:
+                width += 1
+            words = tuple("ab0z"[chosen(4)] * (1 + chosen(2)) for _ in range(chosen(3)))
+            cells.append((top, left, height, width, words))
+            taken |= {(r, c) for r in range(top, top + height) for c in range(left, left + width)}
+    return rows, columns, cells
+
+
+def renamed(grid, words, mark):
+    """The same grid and words under names that no other mark has."""
+    return [[(mark, name) for name in names] for names in grid], {(mark, name): held for name, held in words.items()}
+
+
+def lists_in(value):
+    if isinstance(value, (list, tuple)):
+        for part in value:
+            yield from lists_in(part)
+    if isinstance(value, list):
+        yield value
+
+
+def told_afresh(test, call, *given):
+    """What a call tells, once it is seen that nothing handed in is changed and no list is kept or shared."""
+    before = copy.deepcopy(given)
+    told = call(*given)
+    test.assertEqual(given, before)
+    kept = copy.deepcopy(told)
+    for held in list(lists_in(told)):
+        held.clear()
+    test.assertEqual(given, before)
+    test.assertEqual(call(*given), kept)
+    return kept
+
+
+def refused(test, error, call, *given):
+    """The error by which a call is refused, once it is seen that nothing handed in is changed."""
+    before = copy.deepcopy(given)
+    with test.assertRaises(error) as caught:
+        call(*given)
+    test.assertEqual(given, before)
+    return caught.exception

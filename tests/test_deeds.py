@@ -4,7 +4,7 @@ import unittest
 from gridframe.deeds import column_in, column_out, row_in, row_out, turned
 from gridframe.errors import TooBig, TooSmall
 from gridframe.tables import checked, empty
-from tests.helper import grid_of, small_tables, table_of
+from tests.helper import by_grid, small_tables
 
 MIXED = (3, 3, [
     (0, 0, 1, 1, ("a",)),
@@ -13,11 +13,6 @@ MIXED = (3, 3, [
     (1, 0, 1, 1, ("b",)),
     (2, 0, 1, 2, ("wide", "cell")),
 ])
-
-
-def by_grid(table, change):
-    grid, words = grid_of(table)
-    return table_of(change(grid), words)
 
 
 def grid_row_in(grid, at):
