@@ -105,6 +105,21 @@ def chosen_table(rows, columns, longest, chosen):
     return rows, columns, cells
 
 
+def one_cell(rows, columns, *words):
+    return (rows, columns, [(0, 0, rows, columns, words)])
+
+
+def bands_by_grid(grid):
+    """Whole rows are put together as long as a name goes on from one to the next."""
+    found = []
+    for row, names in enumerate(grid):
+        if row and any(above == name for above, name in zip(grid[row - 1], names)):
+            found[-1] = (found[-1][0], row + 1)
+        else:
+            found.append((row, row + 1))
+    return found
+
+
 def renamed(grid, words, mark):
     """The same grid and words under names that no other mark has."""
     return [[(mark, name) for name in names] for names in grid], {(mark, name): held for name, held in words.items()}

@@ -3,7 +3,7 @@ import unittest
 from gridframe.bands import bands, ordered, tight
 from gridframe.blocks import cut_out, joined
 from gridframe.tables import checked, empty, with_words
-from tests.helper import PINWHEEL, by_grid, grid_of, large_tables, small_tables, table_of, told_afresh
+from tests.helper import PINWHEEL, bands_by_grid, by_grid, grid_of, large_tables, small_tables, table_of, told_afresh
 
 # Bands of 2, 1 and 2 rows.
 BANDED = (5, 2, [
@@ -20,17 +20,6 @@ def column_of(held):
 
 def words_of(table):
     return [cell[4] for cell in table[2]]
-
-
-def bands_by_grid(grid):
-    """Whole rows are put together as long as a name goes on from one to the next."""
-    found = []
-    for row, names in enumerate(grid):
-        if row and any(above == name for above, name in zip(grid[row - 1], names)):
-            found[-1] = (found[-1][0], row + 1)
-        else:
-            found.append((row, row + 1))
-    return found
 
 
 def ordered_by_grid(table, column):

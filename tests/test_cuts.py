@@ -7,17 +7,14 @@ from gridframe.cuts import below, depth, grown, leaves, mirrored, tree
 from gridframe.errors import TooBig
 from gridframe.tables import checked, empty
 from tests.helper import (
-    PINWHEEL, by_grid, grid_of, large_tables, refused, renamed, small_tables, table_of, told_afresh,
+    PINWHEEL, bands_by_grid, by_grid, grid_of, large_tables, one_cell, refused, renamed, small_tables, table_of,
+    told_afresh,
 )
 
 PINWHEEL_TREE = ("knot", 3, 3, PINWHEEL[2])
 OTHER_WHEEL = (3, 3, [
     (0, 0, 2, 1, ("p",)), (0, 1, 1, 2, ("q",)), (1, 1, 1, 1, ()), (1, 2, 2, 1, ("r", "s")), (2, 0, 1, 2, ()),
 ])
-
-
-def one_cell(rows, columns, *words):
-    return (rows, columns, [(0, 0, rows, columns, words)])
 
 
 def staircase(side):
@@ -31,13 +28,7 @@ def staircase(side):
 
 def cut_grid(grid):
     """The grids between the lines between rows that no name goes across."""
-    parts = [[grid[0]]]
-    for above, names in zip(grid, grid[1:]):
-        if any(one == other for one, other in zip(above, names)):
-            parts[-1].append(names)
-        else:
-            parts.append([names])
-    return parts
+    return [grid[first:behind] for first, behind in bands_by_grid(grid)]
 
 
 def grid_turned(grid):
