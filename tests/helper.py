@@ -2,9 +2,20 @@
 
 import copy
 
+from gridframe.tables import checked
+
 PINWHEEL = (3, 3, [
     (0, 0, 1, 2, ("a",)), (0, 2, 2, 1, ("b",)), (1, 0, 2, 1, ("c",)), (1, 1, 1, 1, ("d",)), (2, 1, 1, 2, ("e",)),
 ])
+PINWHEEL_DRAWN = (
+    "+-+-+-+",
+    "|a  |b|",
+    "+-+-+ +",
+    "|c|d| |",
+    "+ +-+-+",
+    "| |e  |",
+    "+-+-+-+",
+)
 
 
 def tilings(rows, columns):
@@ -72,19 +83,42 @@ def by_grid(table, change):
     return table_of(change(grid), words)
 
 
-def large_tables():
-    """Some tables of up to 16 rows and columns with cells of many sizes, the same ones each time."""
-    state = [20]
+def chooser(seed):
+    """Tells one number after the other below a bound, the same ones for the same seed."""
+    state = [seed]
 
     def chosen(many):
         state[0] = (state[0] * 1103515245 + 12345) % 2 ** 31
         return (state[0] >> 16) % many
 
+    return chosen
+
+
+def large_tables():
+    """Some tables of up to 16 rows and columns with cells of many sizes, the same ones each time."""
+    chosen = chooser(20)
     tables = []
     for rows, columns, longest in ((16, 16, 3), (16, 5, 7), (4, 16, 4), (11, 9, 2), (7, 7, 7), (1, 16, 5), (16, 1, 5)):
         for _ in range(6):
             tables.append(chosen_table(rows, columns, longest, chosen))
     return tables
+
+
+def wordy_tables():
+    """Some tables whose cells hold up to 12 words of up to 12 signs, the same ones each time."""
+    chosen = chooser(7)
+    tables = []
+    for rows, columns, longest in ((1, 1, 1), (3, 3, 3), (2, 5, 4), (5, 2, 4), (4, 4, 2), (6, 6, 6), (16, 16, 4)):
+        for most in (3, 6, 13):
+            table = chosen_table(rows, columns, longest, chosen)
+            cells = [cell[:4] + (chosen_words(chosen(most), chosen),) for cell in table[2]]
+            tables.append((rows, columns, cells))
+    return tables
+
+
+def chosen_words(count, chosen):
+    signs = "abcdefghijklmnopqrstuvwxyz0123456789"
+    return tuple("".join(signs[chosen(36)] for _ in range(1 + chosen(12))) for _ in range(count))
 
 
 def chosen_table(rows, columns, longest, chosen):
@@ -153,3 +187,39 @@ def refused(test, error, call, *given):
         call(*given)
     test.assertEqual(given, before)
     return caught.exception
+
+
+def no_texts(text):
+    """Things of many kinds that are no text, some of them near to this one."""
+    return (
+        None, True, False, 0, 1, -3, 2.5, float("nan"), b"", [], (), {}, set(), object(), len, str, (1, 1, []),
+        text.encode(), bytearray(text.encode()), [text], (text,), {"text": text}, text.split("\n"), iter(text),
+        one_cell(1, 1),
+    )
+
+
+def with_other_line_ends(text):
+    """The text with its line ends, or the last of them, otherwise."""
+    others = ("\n\n", "\r\n", "\r", "\v", "\f", "\x1c", "\x85", "\u2028", " ", "")
+    return [text[:-1], text + "\n", "\n" + text, text + text, text + " "] + [text.replace("\n", end) for end in others]
+
+
+def is_read(test, error, read, write, text):
+    """Whether a text is read, once it is seen that the table is a table and is written as that very text."""
+    try:
+        told = read(text)
+    except error:
+        return False
+    test.assertEqual(checked(told), told)
+    test.assertEqual(write(told), text)
+    return True
+
+
+def is_plain_table(table):
+    """Whether the parts of a table are of Python's own kinds."""
+    if type(table) is not tuple or [type(part) for part in table] != [int, int, list]:
+        return False
+    for cell in table[2]:
+        if type(cell) is not tuple or [type(part) for part in cell] != [int, int, int, int, tuple]:
+            return False
+    return all(type(word) is str for cell in table[2] for word in cell[4])

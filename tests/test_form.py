@@ -136,6 +136,19 @@ class Form(unittest.TestCase):
                                 self.assertIsInstance(right, ast.Constant, "L20")
                                 self.assertIn(right.value, (None, True, False), "L20")
 
+    def test_errors_are_taken_and_raised_by_the_names_of_the_program(self):
+        errors = ast.parse((PACKAGE / "errors.py").read_text(encoding="utf-8"))
+        own = {node.name for node in errors.body if isinstance(node, ast.ClassDef)}
+        for path, _, tree in parsed():
+            with self.subTest(file=path.name):
+                for node in ast.walk(tree):
+                    if isinstance(node, ast.ExceptHandler):
+                        self.assertIsInstance(node.type, ast.Name, "L19")
+                        self.assertIn(node.type.id, own, "L19")
+                    if isinstance(node, ast.Raise):
+                        self.assertIsInstance(node.exc, ast.Call, "L19")
+                        self.assertIn(node.exc.func.id, own, "L19")
+
     def test_functions_and_classes(self):
         for path, _, tree in parsed():
             with self.subTest(file=path.name):
